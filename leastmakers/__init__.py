@@ -1,0 +1,1 @@
+"""Leastmakers: numbers that come round, and the least that makes them."""
