@@ -113,7 +113,7 @@ def just(numbers):
     row = ["0"] * (max([-1] + list(numbers)) + 1)
     for number in numbers:
         row[number] = "1"
-    return least(("".join(row), "0"))
+    return "".join(row), "0"
 
 
 def each_step(first, step):

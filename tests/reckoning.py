@@ -39,13 +39,13 @@ def told(table, many):
 def plain_least(table):
     """The least table of the same set: the shortest turn, then the shortest head."""
     head, turn = table
+    text = row(table, len(head) + 2 * len(turn))
     for size in range(1, len(turn) + 1):
-        many = len(head) + len(turn) + size
-        text = row(table, many)
-        for start in range(len(head) + 1):
-            shorter = (text[:start], text[start:start + size])
-            if row(shorter, many) == text:
-                return shorter
+        # From the head on a sign that differs from the one a turn later differs for ever.
+        unlike = [n for n in range(len(head) + len(turn)) if text[n] != text[n + size]]
+        start = unlike[-1] + 1 if unlike else 0
+        if start <= len(head):
+            return text[:start], text[start:start + size]
     raise AssertionError("a table tells its own set")
 
 
@@ -110,6 +110,13 @@ class Case(unittest.TestCase):
         """Equal values of the same kinds, so that True is not taken for 1."""
         self.assertEqual(found, wanted)
         self.assertEqual(repr(found), repr(wanted))
+
+    def check_value(self, function, value, wanted):
+        """The function tells wanted of any value, twice, and leaves the value as it was."""
+        before = copy.deepcopy(value)
+        self.assert_same(function(value), wanted)
+        self.assert_same(function(value), wanted)
+        self.assertEqual(repr(value), repr(before))
 
     def by_name(self, function, wanted, **named):
         """The function, handed its arguments by name, in both orders, returns wanted."""

@@ -1,4 +1,3 @@
-import copy
 import random
 import unittest
 from math import gcd
@@ -33,10 +32,7 @@ def late(one, other):
 
 class TableError(Case):
     def check(self, value, word):
-        before = copy.deepcopy(value)
-        self.assert_same(table_error(value), word)
-        self.assert_same(table_error(value), word)
-        self.assertEqual(repr(value), repr(before))
+        self.check_value(table_error, value, word)
 
     def test_tables(self):
         for table in small_tables(3, 3):
@@ -248,6 +244,8 @@ class Parting(Case):
         self.check(("1" * 5000, prime_turn(5000)), ("", "1"), 5001)
         self.check(EMPTY, ("0" * 5000, "0" * 4999 + "1"), 9999)
         self.check(EMPTY, ALL, 0)
+        self.check(EMPTY, ("0" * 5000, "0" * 9 + "1"), 5009)
+        self.check(("", "01"), ("01" * 2498 + "0100", "01"), 4999)
 
     def test_guarantee(self):
         tables = least_tables(2, 4)
@@ -326,6 +324,8 @@ class Within(Case):
     def test_the_least_tables_tell_whether_it_is_refused(self):
         self.check(("", "10" * 2500), ("", prime_turn(2499)), 2)
         self.check(("", "10" * 2499), ("", prime_turn(5000)), 2)
+        self.check(("", prime_turn(2499)), ("", "10" * 2500), 2499)
+        self.check(("", prime_turn(5000)), ("", "10" * 2499), None)
         self.check(("", "1" * 5000), ("", "1" * 4998 + "0"), 4998)
         self.check(("", "0" * 4999), ("", prime_turn(5000)), None)
         self.refused(("", "10" * 2500), ("", prime_turn(4999)))
