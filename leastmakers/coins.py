@@ -1,7 +1,8 @@
 """Coins: purses of free and of bounded coins, and the numbers that they pay."""
 
 from leastmakers.bounds import MAX_COIN, MAX_COINS, MAX_TIMES
-from leastmakers.common import greatest_divisor, is_ascending, is_pair, is_whole, row_of
+from leastmakers.common import (
+    greatest_divisor, has_bit, is_ascending, is_pair, is_whole, row_of)
 from leastmakers.counts import is_endless, last, next_from
 from leastmakers.errors import NoFree, NoOne
 from leastmakers.joins import contrary
@@ -109,20 +110,16 @@ def pay(purse, amount):
 def _small_counts(lots, amount):
     """The list of counts of the lots that pay an amount that is not great; None if none do."""
     rows = _paid_rows(lots, amount + 1)
-    if not _has_bit(rows[-1], amount):
+    if not has_bit(rows[-1], amount):
         return None
     counts = []
     for place in range(len(lots) - 1, -1, -1):
         many = 0
-        while not _has_bit(rows[place], amount):
+        while not has_bit(rows[place], amount):
             many += 1
             amount -= lots[place][0]
         counts.append(many)
     return counts[::-1]
-
-
-def _has_bit(bits, place):
-    return (bits >> place) & 1 == 1
 
 
 def pay_holds(purse, amount, value):
@@ -139,11 +136,16 @@ def pay_holds(purse, amount, value):
 
 def leasts(purse):
     """For each remainder by the least free coin the least paid number with it, or None."""
+    check_free(purse)
     free = purse[0]
-    if free == ():
-        raise NoFree()
     row = _paid_signs(purse, _round(purse)[0] + free[0])
     return tuple([_least_of(row, rest, free[0]) for rest in range(free[0])])
+
+
+def check_free(purse):
+    """Raise NoFree if there are no free coins."""
+    if purse[0] == ():
+        raise NoFree()
 
 
 def _least_of(row, rest, step):
@@ -180,7 +182,7 @@ def own_coins(free):
 
 def _others_pay(free, coin):
     lots = [(other, coin) for other in free if other != coin]
-    return _has_bit(_paid_rows(lots, coin + 1)[-1], coin)
+    return has_bit(_paid_rows(lots, coin + 1)[-1], coin)
 
 
 def fewest(coins, amount):

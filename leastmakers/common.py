@@ -16,6 +16,16 @@ def is_whole(value, low, high):
     return isinstance(value, int) and not isinstance(value, bool) and low <= value <= high
 
 
+def is_number(value):
+    """Whether value is an integer, no truth, from 0 on."""
+    return isinstance(value, int) and not isinstance(value, bool) and value >= 0
+
+
+def is_triple(value):
+    """Whether value is a tuple of three items."""
+    return isinstance(value, tuple) and len(value) == 3
+
+
 def is_ascending(items):
     """Whether each item is greater than the one ahead of it."""
     return all([low < high for low, high in zip(items, items[1:])])
@@ -55,6 +65,11 @@ def bits_of(row):
     """The integer whose bit n is the sign at place n of the row."""
     # The nought in front gives an empty row a value, too.
     return int("0" + row[::-1], 2)
+
+
+def has_bit(bits, place):
+    """Whether the bit at this place is 1."""
+    return (bits >> place) & 1 == 1
 
 
 def row_of(bits, many):

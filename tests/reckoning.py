@@ -113,10 +113,14 @@ class Case(unittest.TestCase):
 
     def check_value(self, function, value, wanted):
         """The function tells wanted of any value, twice, and leaves the value as it was."""
-        before = copy.deepcopy(value)
-        self.assert_same(function(value), wanted)
-        self.assert_same(function(value), wanted)
-        self.assertEqual(repr(value), repr(before))
+        self.check_holds(function, wanted, value)
+
+    def check_holds(self, function, wanted, *values):
+        """The function tells wanted, twice, and leaves what it is passed as it was."""
+        before = repr(values)
+        self.assert_same(function(*values), wanted)
+        self.assert_same(function(*values), wanted)
+        self.assertEqual(repr(values), before)
 
     def by_name(self, function, wanted, **named):
         """The function, handed its arguments by name, in both orders, returns wanted."""

@@ -1,4 +1,3 @@
-import copy
 import itertools
 import random
 import unittest
@@ -235,10 +234,7 @@ class Pay(Case):
 
 class PayHolds(Case):
     def check(self, purse, amount, value, holds):
-        before = copy.deepcopy(value)
-        self.assert_same(pay_holds(purse, amount, value), holds)
-        self.assert_same(pay_holds(purse, amount, value), holds)
-        self.assertEqual(repr(value), repr(before))
+        self.check_holds(pay_holds, holds, purse, amount, value)
 
     def test_all_small_counts(self):
         for purse in (((3, 5), ()), ((2,), ((3, 1), (4, 2))), ((), ((1, 2), (3, 2))), ((6, 10, 15), ())):
