@@ -1,4 +1,4 @@
-"""What several parts share: checks of values, rows of signs as bits, sizes of tables."""
+"""What several parts share: checks of values, figures, rows of signs as bits, table sizes."""
 
 from math import gcd, lcm
 
@@ -26,6 +26,11 @@ def is_triple(value):
     return isinstance(value, tuple) and len(value) == 3
 
 
+def are_below(modulus, value):
+    """Whether value is a tuple of numbers below the modulus."""
+    return isinstance(value, tuple) and all([is_whole(item, 0, modulus - 1) for item in value])
+
+
 def is_ascending(items):
     """Whether each item is greater than the one ahead of it."""
     return all([low < high for low, high in zip(items, items[1:])])
@@ -45,6 +50,28 @@ def least_multiple(numbers):
     for number in numbers:
         multiple = lcm(multiple, number)
     return multiple
+
+
+def power(base, exponent):
+    """The base taken as a factor so many times."""
+    product = 1
+    for _ in range(exponent):
+        product = product * base
+    return product
+
+
+def figures(code, base, many):
+    """The so many last figures of the code in this base."""
+    found = []
+    for _ in range(many):
+        code, figure = divmod(code, base)
+        found.append(figure)
+    return tuple(found[::-1])
+
+
+def sum_ahead(modulus, factors, ahead):
+    """The sum of the numbers ahead, the nearest one times the first factor, by the modulus."""
+    return sum([factor * number for factor, number in zip(factors, ahead[::-1])]) % modulus
 
 
 def check_size(head, turn):
@@ -74,5 +101,5 @@ def has_bit(bits, place):
 
 def row_of(bits, many):
     """The first so many signs of the row with these bits."""
-    figures = f"{bits:b}"
-    return figures[::-1].ljust(many, "0")[:many]
+    written = f"{bits:b}"
+    return written[::-1].ljust(many, "0")[:many]

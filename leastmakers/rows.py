@@ -1,6 +1,6 @@
 """Rows in which each number is a told sum of those just ahead of it, by a modulus."""
 
-from leastmakers.common import is_triple, is_whole
+from leastmakers.common import are_below, figures, is_triple, is_whole, power, sum_ahead
 from leastmakers.tables import table_of
 
 _MOST_MODULUS = 9
@@ -16,38 +16,21 @@ def rule_error(value):
     modulus, factors, begin = value
     if not is_whole(modulus, 2, _MOST_MODULUS):
         return "modulus"
-    if not _are_below(modulus, factors) or not 1 <= len(factors) <= _MOST_FACTORS:
+    if not are_below(modulus, factors) or not 1 <= len(factors) <= _MOST_FACTORS:
         return "factors"
-    if _power(modulus, len(factors)) > _MOST_BEGINS:
+    if power(modulus, len(factors)) > _MOST_BEGINS:
         return "factors"
-    if not _are_below(modulus, begin) or len(begin) != len(factors):
+    if not are_below(modulus, begin) or len(begin) != len(factors):
         return "begin"
     return None
 
 
-def _are_below(modulus, value):
-    """Whether value is a tuple of numbers below the modulus."""
-    return isinstance(value, tuple) and all([is_whole(item, 0, modulus - 1) for item in value])
-
-
-def _power(base, exponent):
-    power = 1
-    for _ in range(exponent):
-        power = power * base
-    return power
-
-
-def _next_value(rule, ahead):
-    """The value behind as many values as the rule has factors."""
-    modulus, factors, _ = rule
-    return sum([factor * value for factor, value in zip(factors, ahead[::-1])]) % modulus
-
-
 def values(rule, many):
     """The first so many values of the row."""
-    row = list(rule[2])
+    modulus, factors, begin = rule
+    row = list(begin)
     while len(row) < many:
-        row.append(_next_value(rule, row[-len(rule[1]):]))
+        row.append(sum_ahead(modulus, factors, row[-len(factors):]))
     return tuple(row[:many])
 
 
@@ -61,12 +44,12 @@ def value_at(rule, number):
 
 def round_of(rule):
     """The least lengths (head, turn) with which the row comes round."""
+    modulus, factors, ahead = rule
     seen = {}
-    ahead = rule[2]
     # As many values as there are factors tell all that follow.
     while ahead not in seen:
         seen[ahead] = len(seen)
-        ahead = ahead[1:] + (_next_value(rule, ahead),)
+        ahead = ahead[1:] + (sum_ahead(modulus, factors, ahead),)
     return seen[ahead], len(seen) - seen[ahead]
 
 
@@ -79,20 +62,11 @@ def reads(rule, value):
 
 def longest_row(prime, order):
     """The greatest length of a turn of a row of so many factors, and a rule with it."""
-    most = _power(prime, order) - 1
+    most = power(prime, order) - 1
     begin = (0,) * (order - 1) + (1,)
     code = 1
-    rule = (prime, _figures(code, prime, order), begin)
+    rule = (prime, figures(code, prime, order), begin)
     while round_of(rule) != (0, most):
         code += 1
-        rule = (prime, _figures(code, prime, order), begin)
+        rule = (prime, figures(code, prime, order), begin)
     return most, rule
-
-
-def _figures(code, base, many):
-    """The so many last figures of the code in this base."""
-    figures = []
-    for _ in range(many):
-        code, figure = divmod(code, base)
-        figures.append(figure)
-    return tuple(figures[::-1])
