@@ -31,6 +31,20 @@ def are_below(modulus, value):
     return isinstance(value, tuple) and all([is_whole(item, 0, modulus - 1) for item in value])
 
 
+def is_name(value):
+    """Whether value is a string of 1 to 8 letters from a to z."""
+    if not isinstance(value, str) or not 1 <= len(value) <= 8:
+        return False
+    return value.isascii() and value.isalpha() and value.islower()
+
+
+def is_written(word, most):
+    """Whether the word is a number from 0 on as it is written, of at most so many figures."""
+    if not word.isascii() or not word.isdigit() or len(word) > most:
+        return False
+    return word == "0" or word[0] != "0"
+
+
 def is_ascending(items):
     """Whether each item is greater than the one ahead of it."""
     return all([low < high for low, high in zip(items, items[1:])])

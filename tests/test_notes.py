@@ -104,7 +104,8 @@ class AlwaysAndOften(Case):
 
     def test_known(self):
         for table, is_always, is_often in (
-                (ALL, True, True), (EMPTY, False, False), (A, False, True), (B, False, False), (("0", "1"), False, True),
+                (ALL, True, True), (EMPTY, False, False), (A, False, True), (B, False, False),
+                (("0", "1"), False, True),
                 (("1", "0"), False, False), (("11", "11"), True, True)):
             self.assert_same(always(S, (table,)), is_always)
             self.assert_same(often(S, (table,)), is_often)
