@@ -114,8 +114,10 @@ class TableTexts(TextCase):
 
 
 class MakerTexts(TextCase):
-    def test_example(self):
+    def test_examples(self):
         self.assert_same(maker_text(A), "coins 2 2 5 0")
+        self.bad(read_maker, "coins 7 1", 1)
+        self.bad(read_maker, "table - 1010", None)
 
     def test_text_and_back(self):
         for maker in ALL_MAKERS:
