@@ -11,6 +11,9 @@ _MOST_FIGURES = 6
 # No line has parts that stand in so many others: such texts are not put together.
 _TOO_DEEP = 40
 
+# What is one word that may be any word of its form: nothing is told by which word it is.
+_ALONE = ("number", "head", "turn", "name")
+
 # What stands behind each word of a text, by what is wanted there.
 _BEHIND = {
     ("line", "of"): ("saying", "names"),
@@ -192,7 +195,7 @@ def _behind(kind, word):
         return parts * int(word)
     if kind == "line" and word != "of":
         return _behind("maker", word)
-    if kind in ("number", "head", "turn", "name"):
+    if kind in _ALONE:
         return () if _fits_alone(kind, word) else None
     return _BEHIND.get((kind, word))
 
@@ -218,16 +221,29 @@ def _read(kind, left):
     if kind in _COUNTS:
         parts = _COUNTS[kind][2]
         return tuple([_group(parts, left) for _ in range(int(word))]) if parts else int(word)
-    if kind == "number":
-        return int(word)
-    if kind == "head":
-        return "" if word == "-" else word
+    if kind in _ALONE:
+        return _value_alone(kind, word)
     items = [_read(part, left) for part in _behind(kind, word)]
+    # A word means what it says only where its own kind is wanted: any word can be a name.
     if kind in ("maker", "line"):
         return _line_of(word, items)
+    if kind == "step":
+        return _step_of(word, items)
+    return tuple([word] + items) if kind == "saying" else word
+
+
+def _value_alone(kind, word):
+    """The value of the word of this kind, behind which nothing is wanted."""
+    if kind == "number":
+        return int(word)
+    return "" if kind == "head" and word == "-" else word
+
+
+def _step_of(word, items):
+    """The step of a program with this word and the items that stand in its text."""
     if word == "rest":
         return word, len(items[0]), items[0]
-    return tuple([word] + items) if kind in ("saying", "step") else word
+    return tuple([word] + items)
 
 
 def _group(parts, left):

@@ -14,6 +14,10 @@ from leastmakers.webs import walked
 
 KINDS = ("table", "watches", "coins", "web", "game", "book", "program", "row", "saying")
 
+# All words that a text knows: each of them can be a name of a house, too.
+TEXT_WORDS = KINDS + ("of", "told", "not", "and", "or", "next", "from", "some", "till", "ahead", "since",
+                      "add", "take", "rest", "end", "yes", "no", "never")
+
 WEB = (3, ((0, 1), (1, 2), (2, 0), (2, 1)), (0,))
 LASSO = (4, ((0, 1), (0, 3), (1, 2), (2, 1)), (2,))
 BOOK = (1, ((0, 1, ()), (0, 3, (0, 0))))

@@ -6,7 +6,7 @@ from leastmakers.house import House
 from leastmakers.shells import Shell
 from leastmakers.tables import has, parting
 from leastmakers.texts import line_text, maker_text, read_line, table_text
-from makerforms import ALL_MAKERS, COINS, GREAT_BOOK, S, TABLE, WATCHES
+from makerforms import ALL_MAKERS, COINS, GREAT_BOOK, S, TABLE, TEXT_WORDS, WATCHES
 from reckoning import VALUES, Case
 
 EVEN = ("watches", ((0, 2),))
@@ -119,6 +119,18 @@ class Deeds(ShellCase):
 
     def test_a_line_over_names_that_are_not_there(self):
         self.talk(("put x of told 0 0 1 y", "no BadLine"), ("put y " + TEXT, "ok 1"), ("put x of told 0 0 1 y", "ok 2"))
+
+    def test_names_like_words(self):
+        for name in TEXT_WORDS + ("put", "change", "swap", "drop", "rename", "undo", "redo", "names", "text", "tells",
+                                  "hangs", "alike", "parted", "none", "what", "ok"):
+            line = f"of not told 0 0 1 {name}"
+            self.talk((f"put y {line}", "no BadLine"), (f"put {name} {TEXT}", "ok 1"), (f"put y {line}", "ok 2"),
+                      ("table y", "- 01"), ("text y", line), (f"hangs {name}", "y"), (f"tells {name} 4", "yes"),
+                      (f"parted y {name}", f"0 {name}"), (f"swap y {line}", "ok 3"), (f"change y {line}", "ok 4"),
+                      (f"change {name} of told 0 0 1 {name}", "no Ring"), (f"drop {name}", "no Hangs"),
+                      (f"rename {name} z", "ok 5"), ("text y", "of not told 0 0 1 z"), (f"rename z {name}", "ok 6"),
+                      ("text y", line), ("names", " ".join(sorted(["y", name]))), ("drop y", "ok 7"),
+                      (f"drop {name}", "ok 8"), ("names", "none"))
 
 
 def table_of(text):

@@ -7,7 +7,7 @@ from leastmakers.makers import made, maker_error
 from leastmakers.sayings import saying_error
 from leastmakers.tables import ALL, EMPTY
 from leastmakers.texts import line_text, maker_text, read_line, read_maker, read_table, table_text
-from makerforms import ALL_MAKERS, COINS, DEEP, FIB, KINDS, PLAIN, S, TABLE, WRONG
+from makerforms import ALL_MAKERS, COINS, DEEP, FIB, KINDS, PLAIN, S, TABLE, TEXT_WORDS, WRONG
 from programforms import P, Q
 from reckoning import VALUES, Case, longer, small_tables
 from sayingforms import cases, highest, one_in_another
@@ -208,6 +208,68 @@ class LineTexts(TextCase):
     def test_by_name(self):
         self.by_name(line_text, "of told 0 0 1 x", line=LINES[0])
         self.by_name(read_line, LINES[0], value="of told 0 0 1 x")
+
+
+class NamesLikeWords(TextCase):
+    def test_alone(self):
+        for word in TEXT_WORDS:
+            line, text = ("of", S, (word,)), f"of told 0 0 1 {word}"
+            self.assert_same(self.quick(line_text, line), text)
+            self.assert_same(self.quick(read_line, text), line)
+            self.by_name(read_line, line, value=text)
+            self.bad(read_maker, text, 0)
+
+    def test_among_others(self):
+        self.assert_same(read_line("of told 1 1 3 yyyyxyxy dib rest"),
+                         ("of", ("told", 1, 1), ("yyyyxyxy", "dib", "rest")))
+        for one, other in itertools.product(TEXT_WORDS, repeat=2):
+            for names in ((one, other), (one, "x", other), ("x", one, other), (one, other, one)):
+                text = f"of till told 0 0 not told 1 3 {len(names)} {' '.join(names)}"
+                line = ("of", ("till", S, ("not", ("told", 1, 3))), names)
+                self.assert_same(read_line(text), line)
+                self.assert_same(line_text(line), text)
+
+    def test_behind_all_sayings(self):
+        picker = random.Random(363)
+        for saying in one_in_another() + [saying for saying, _ in cases(364, 80, 6)]:
+            for many in range(highest(saying) + 1, 4):
+                line = ("of", saying, tuple(picker.choice(TEXT_WORDS) for _ in range(many)))
+                self.assert_same(read_line(line_text(line)), line)
+
+    def test_nothing_stands_behind_them(self):
+        for word in TEXT_WORDS:
+            for more in ("2", "1 0", "2 0 1", "told 0 0", "yes", "-", "", word):
+                self.bad(read_line, f"of told 0 0 1 {word} {more}", 6)
+            self.bad(read_line, f"of told 0 0 2 {word}", 6)
+            self.bad(read_line, f"of told 0 0 3 x {word}", 7)
+            self.bad(read_line, f"of told 0 0 2 {word} 2", 6)
+            # By form it is a name; what is wrong stands elsewhere.
+            self.bad(read_line, f"of told 1 0 1 {word}", None)
+
+    def test_other_names_are_no_words(self):
+        for word in ("abc", "name", "line", "maker", "step", "number", "head", "turn"):
+            self.bad(read_line, f"{word} told 0 0 1 x", 0)
+            self.bad(read_line, f"of {word} 0 0 1 x", 1)
+            self.bad(read_line, f"program 1 {word} 2 0 0 yes", 2)
+            self.bad(read_line, f"program 1 end {word}", 3)
+            self.bad(read_line, f"program 1 end yes {word}", 4)
+        self.assert_same(read_line("program 2 rest 2 0 1 end yes yes"),
+                         ("program", (("rest", 2, (0, 1)), ("end", "yes")), "yes"))
+
+    def test_each_word_at_each_place(self):
+        found = 0
+        for text in LINE_TEXTS:
+            words = text.split(" ")
+            for place, word in itertools.product(range(len(words)), TEXT_WORDS):
+                other = " ".join(words[:place] + [word] + words[place + 1:])
+                try:
+                    line = read_line(other)
+                except BadText as error:
+                    self.assertTrue(error.place is None or place <= error.place <= len(words))
+                else:
+                    self.assertEqual(line_text(line), other)
+                    found += 1
+        self.assertGreater(found, 6 * len(TEXT_WORDS))
 
 
 class BadWords(TextCase):
